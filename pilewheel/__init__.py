@@ -1,0 +1,1 @@
+"""Pilewheel: piles of coins, one taken from each for a new pile."""
