@@ -4,6 +4,11 @@ from itertools import product
 
 MOST_TURNS = 10 ** 29
 
+# How many settings there are of 1 to 18 coins, and how many rings of 1 to 36.
+SETTINGS_MANY = [1, 2, 3, 5, 7, 11, 15, 22, 30, 42, 56, 77, 101, 135, 176, 231, 297, 385]
+RINGS_MANY = [1, 1, 1, 1, 1, 1, 1, 2, 1, 1, 1, 2, 2, 1, 1, 1, 3, 4, 3, 1, 1,
+              1, 3, 5, 5, 3, 1, 1, 1, 4, 7, 10, 7, 4, 1, 1]
+
 NO_SETTINGS = [
     [],
     [0],
@@ -93,6 +98,25 @@ def way_and_ring(piles):
     while one_turn(ring[-1]) != piles:
         ring.append(one_turn(ring[-1]))
     return way, ring
+
+
+def elders_by_turns(coins):
+    """Each setting of these coins with its elders, found by turning all of them."""
+    elders = {tuple(piles): [] for piles in all_settings(coins)}
+    for piles in all_settings(coins):
+        elders[tuple(one_turn(piles))].append(piles)
+    return {piles: sorted(found) for piles, found in elders.items()}
+
+
+def rings_by_turns(coins):
+    """The rings of these coins in the document's order, found by walking from each marks."""
+    rings = []
+    for marks in sorted(all_marks(coins), reverse=True):
+        # Greatest marks first: so a ring is met at its greatest ones, and then passed over.
+        piles = setting_from(marks)
+        if not any(piles in ring for ring in rings):
+            rings.append(way_and_ring(piles)[1])
+    return rings
 
 
 def refused(case, error, call, *handed):

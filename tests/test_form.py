@@ -2,6 +2,7 @@
 
 import ast
 import builtins
+import re
 import unittest
 from pathlib import Path
 
@@ -13,6 +14,12 @@ STATEMENTS = (ast.Assign, ast.AugAssign, ast.If, ast.While, ast.For, ast.Return,
 LEFT_OUT = (ast.SetComp, ast.DictComp, ast.GeneratorExp, ast.NamedExpr, ast.Starred, ast.Div, ast.Set)
 OWN_NAMES = """len range enumerate zip min max sum abs sorted reversed int str bool list tuple dict set
     frozenset isinstance ord repr any all divmod ValueError KeyError""".split()
+METHODS = """append clear copy count endswith extend find get index insert isalnum isalpha isdigit islower
+    isspace isupper items join keys ljust lower lstrip partition pop remove replace reverse rfind rjust
+    rpartition rsplit rstrip setdefault split splitlines startswith strip update upper values zfill
+    bit_length""".split()
+WORDS_LEFT_OUT = """type typing typing_extensions enum Enum IntEnum StrEnum Flag IntFlag Generic Protocol ABC
+    ABCMeta namedtuple NamedTuple TypedDict TYPE_CHECKING abstractmethod""".split()
 
 
 def nodes():
@@ -51,6 +58,29 @@ class FormTest(unittest.TestCase):
             if isinstance(node, ast.Assign):
                 self.assertEqual(len(node.targets), 1, place)
 
+    def test_comprehensions_have_one_walk(self):
+        for name, node in nodes():
+            if isinstance(node, ast.ListComp):
+                self.assertEqual(len(node.generators), 1, (name, node.lineno))
+                self.assertLessEqual(len(node.generators[0].ifs), 1, (name, node.lineno))
+
+    def test_methods(self):
+        for name, node in nodes():
+            if isinstance(node, ast.Attribute):
+                self.assertIn(node.attr, METHODS, (name, node.lineno))
+
+    def test_words(self):
+        for path in FILES:
+            words = re.findall("[A-Za-z0-9_]+", path.read_text())
+            self.assertEqual([word for word in words if word in WORDS_LEFT_OUT], [], path.name)
+
+    def test_sets_are_not_kept(self):
+        for name, node in nodes():
+            for call in ast.iter_child_nodes(node):
+                if isinstance(call, ast.Call) and isinstance(call.func, ast.Name) and call.func.id == "set":
+                    self.assertTrue(isinstance(node, ast.Compare) or isinstance(node, ast.Call)
+                                    and node.func.id in ("sorted", "len") and node.keywords == [], name)
+
     def test_names(self):
         for name, node in nodes():
             if isinstance(node, ast.Name):
@@ -70,6 +100,18 @@ class FormTest(unittest.TestCase):
                 defined += [one.targets[0].id for one in top if isinstance(one, ast.Assign)]
                 for drawn in node.names:
                     self.assertIn(drawn.name, defined, name)
+
+    def test_no_two_files_draw_from_one_another(self):
+        draws = {path.name: [] for path in FILES}
+        for name, node in nodes():
+            if isinstance(node, ast.ImportFrom):
+                draws[node.module.partition(".")[2] + ".py"].append(name)
+        # A file that nobody still left draws from can be put aside; a ring of files never can.
+        while draws:
+            free = [name for name in draws if not set(draws[name]) & set(draws)]
+            self.assertNotEqual(free, [], draws)
+            for name in free:
+                draws.pop(name)
 
 
 if __name__ == "__main__":
